@@ -1,0 +1,1 @@
+"""Lives by drifting clocks: what can be known of true time from clocks that are never right."""
