@@ -83,12 +83,12 @@ def is_event(told, event):
     return event >= 0 and event < len(told.events)
 
 
-def shows_more(told, number, reading):
-    """Whether the last event of the node's last run shows more than this reading."""
+def least_next(told, number):
+    """The least reading that the node's next event can show: its last one, 0 if its last run has no event."""
     for event in reversed(told.events):
         if event.node == number and event.run == told.nodes[number].cuts:
-            return event.reading > reading
-    return False
+            return event.reading
+    return 0
 
 
 def is_below(most, least):
@@ -117,7 +117,7 @@ def refuse_at(told, parts):
     number = find_named(told.nodes, parts[0])
     if number < 0:
         return NOT_THERE
-    if shows_more(told, number, parts[1]):
+    if parts[1] < least_next(told, number):
         return NOT_FITTING
     if len(told.events) >= MOST_EVENTS:
         return FULL

@@ -16,6 +16,8 @@ LONGEST_NAME = 12
 MOST_NUMBER = 1000000000000
 LAST_EVENT = 19
 MOST_OF_RATE = 1000000
+# No number of a text may have more.
+MOST_DIGITS = 300
 
 # Stands for a greatest lag, or a latest moment, that isn't there: no number is below 0.
 NO_MOST = -1
@@ -33,16 +35,22 @@ def read_name(word):
     return tuple(word)
 
 
-def read_whole(word, least, most):
-    """The whole number that the word tells, if it's from least to most."""
-    if len(word) == 0 or (len(word) > 1 and word[0] == DIGIT_0):
+def read_digits(word):
+    """The whole number that the word tells."""
+    if len(word) == 0 or len(word) > MOST_DIGITS or (len(word) > 1 and word[0] == DIGIT_0):
         return None
     number = 0
     for byte in word:
         if byte < DIGIT_0 or byte > DIGIT_9:
             return None
         number = number * 10 + byte - DIGIT_0
-    if number < least or number > most:
+    return number
+
+
+def read_whole(word, least, most):
+    """The whole number that the word tells, if it's from least to most."""
+    number = read_digits(word)
+    if number is None or number < least or number > most:
         return None
     return number
 
@@ -69,16 +77,36 @@ def read_most(word):
     return read_number(word)
 
 
-def read_rate(word):
-    """A rate as the two numbers of its fraction."""
+def read_ratio(word):
+    """A fraction in lowest terms that isn't below 0, as its two numbers."""
     pieces = split_at(word, SLASH)
     if len(pieces) > 2:
         return None
-    over = read_whole(pieces[0], 1, MOST_OF_RATE)
-    under = 1 if len(pieces) == 1 else read_whole(pieces[1], 2, MOST_OF_RATE)
+    over = read_digits(pieces[0])
+    under = 1 if len(pieces) == 1 else read_digits(pieces[1])
     if over is None or under is None or common_divisor(over, under) != 1:
         return None
+    if len(pieces) == 2 and under < 2:
+        return None
     return (over, under)
+
+
+def read_rate(word):
+    """A rate as the two numbers of its fraction."""
+    ratio = read_ratio(word)
+    if ratio is None or ratio[0] < 1 or ratio[0] > MOST_OF_RATE or ratio[1] > MOST_OF_RATE:
+        return None
+    return ratio
+
+
+def read_fraction(word):
+    """Any fraction as its two numbers, the first of which is below 0 if the fraction is."""
+    if len(word) == 0 or word[0] != MINUS:
+        return read_ratio(word)
+    ratio = read_ratio(word[1:])
+    if ratio is None or ratio[0] == 0:
+        return None
+    return (0 - ratio[0], ratio[1])
 
 
 # Of each kind of fact, by its number: its first word, and what reads each further one.

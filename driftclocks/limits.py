@@ -32,6 +32,18 @@ def is_tighter(first, second):
     return second is None or first < second
 
 
+def tighter_limit(first, second):
+    """The tighter one of both; None if both are none."""
+    return first if is_tighter(first, second) else second
+
+
+def finer_limit(limit, factor):
+    """The same limit in parts of a scale of that many times as many parts."""
+    if limit is None:
+        return None
+    return (limit[0] * factor, limit[1])
+
+
 def limit_answer(limit, scale):
     """The limit as a call answers it."""
     if limit is None:

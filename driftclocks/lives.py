@@ -3,8 +3,11 @@
 from driftclocks.calls import read_calls, refuse_call
 from driftclocks.facts import Told, tell_fact
 from driftclocks.grammar import LINE_END, read_facts, read_single
+from driftclocks.knowledge import FIRST_OF_KNOWLEDGE, answer_knowledge
 from driftclocks.questions import answer_question
+from driftclocks.readings import FIRST_OF_READINGS, answer_readings
 from driftclocks.refusals import FAULT_BASE, LINE_BASE
+from driftclocks.worlds import FIRST_OF_WORLDS, answer_of_world
 
 
 class Lives:
@@ -86,7 +89,13 @@ def answer_call(lives, call):
         return [refusal]
     if call.number < len(TELLERS):
         return TELLERS[call.number](lives, call.row)
-    return answer_question(lives.told, call)
+    if call.number < FIRST_OF_READINGS:
+        return answer_question(lives.told, call)
+    if call.number < FIRST_OF_WORLDS:
+        return answer_readings(lives.told, call)
+    if call.number < FIRST_OF_KNOWLEDGE:
+        return answer_of_world(lives.told, call)
+    return answer_knowledge(lives.told, call)
 
 
 def answers(calls):

@@ -1,38 +1,13 @@
-"""The calls that ask what follows from what's told."""
+"""The calls that ask of bounds, chains, contradictions and lives."""
 
 from driftclocks.facts import is_event
-from driftclocks.limits import REACHED, ZERO, add_limits, close_limits, find_contradiction, limit_answer, negate_limit
-from driftclocks.refusals import CONTRADICTS, NO_CALL, NOT_KNOWN, NOT_LET
+from driftclocks.limits import ZERO, add_limits, limit_answer
+from driftclocks.refusals import CONTRADICTS, NOT_LET
 from driftclocks.steps import ALL_TOLD, ORIGIN, find_known, find_steps
+from driftclocks.views import View, bounds_answer, judge_life, refuse_view, view_at
 from driftclocks.ways import find_chain, find_ring
 
 MOST_POINTS = 40
-
-SURELY_LIVING = 0
-EITHER = 1
-SURELY_OVER = 2
-
-
-class View:
-    """What's known at an event, or all that's told: its steps and the limits between all points."""
-
-    def __init__(self, told, asked):
-        self.steps = find_steps(told, find_known(told, asked), [])
-        self.limits = close_limits(self.steps.rows)
-
-    def limit_between(self, source, goal):
-        """The limit from a point to another one."""
-        return self.limits[source + 1][goal + 1]
-
-
-def refuse_view(view, events):
-    """The refusal where an event isn't known or what's known contradicts, 0 if there's none."""
-    for event in events:
-        if not view.steps.is_known(event):
-            return NOT_KNOWN
-    if find_contradiction(view.limits):
-        return CONTRADICTS
-    return 0
 
 
 def as_points(places):
@@ -42,18 +17,16 @@ def as_points(places):
 
 def answer_bounds(told, wholes, row):
     """5 bounds (g, e, f)."""
-    view = View(told, wholes[0])
+    view = view_at(told, wholes[0])
     refusal = refuse_view(view, wholes[1:])
     if refusal < 0:
         return [refusal]
-    least = negate_limit(view.limit_between(wholes[2], wholes[1]))
-    greatest = view.limit_between(wholes[1], wholes[2])
-    return [0] + limit_answer(least, view.steps.scale) + limit_answer(greatest, view.steps.scale)
+    return [0] + bounds_answer(view.bounds_between(wholes[1], wholes[2]), view.steps.scale)
 
 
 def answer_chain(told, wholes, row):
     """6 chain (g, e, f)."""
-    view = View(told, wholes[0])
+    view = view_at(told, wholes[0])
     refusal = refuse_view(view, wholes[1:])
     if refusal < 0:
         return [refusal]
@@ -84,7 +57,7 @@ def answer_shows(told, wholes, row):
 
 def answer_order(told, wholes, row):
     """8 order (g, e, f)."""
-    view = View(told, wholes[0])
+    view = view_at(told, wholes[0])
     refusal = refuse_view(view, wholes[1:])
     if refusal < 0:
         return [refusal]
@@ -102,8 +75,8 @@ def answer_order(told, wholes, row):
 
 def answer_clash(told, wholes, row):
     """9 clash (g)."""
-    view = View(told, wholes[0])
-    if not find_contradiction(view.limits):
+    view = view_at(told, wholes[0])
+    if not view.contradicts():
         return [0]
     ring = find_ring(view.steps.rows)
     return [len(ring)] + as_points(ring)
@@ -119,8 +92,7 @@ def sets_of_nodes(size):
 
 def contradicts_without(told, left_out):
     """Whether all that's told contradicts without the rates of these nodes."""
-    steps = find_steps(told, find_known(told, ALL_TOLD), left_out)
-    return find_contradiction(close_limits(steps.rows))
+    return View(find_steps(told, find_known(told, ALL_TOLD), left_out)).contradicts()
 
 
 def answer_liars(told, wholes, row):
@@ -131,28 +103,17 @@ def answer_liars(told, wholes, row):
     return [CONTRADICTS]
 
 
-def judge_life(least, greatest, life):
-    """Whether a life is over by the bounds of the age; all three in parts of one scale."""
-    if least is not None and least[0] >= life:
-        return SURELY_OVER
-    if greatest is not None and greatest < (life, REACHED):
-        return SURELY_LIVING
-    return EITHER
-
-
 def answer_life(told, wholes, row):
     """11 life (g, p, f)."""
-    view = View(told, wholes[0])
+    view = view_at(told, wholes[0])
     parcel = told.parcels[wholes[1]]
     refusal = refuse_view(view, [parcel.event, wholes[2]])
     if refusal < 0:
         return [refusal]
-    least = negate_limit(view.limit_between(wholes[2], parcel.event))
-    greatest = view.limit_between(parcel.event, wholes[2])
-    return [judge_life(least, greatest, parcel.life * view.steps.scale)]
+    return [judge_life(view.bounds_between(parcel.event, wholes[2]), parcel.life * view.steps.scale)]
 
 
-# By the numbers of the calls, from 5 on.
+# By the numbers of the calls, from the first one on.
 QUESTIONS = (
     answer_bounds,
     answer_chain,
@@ -166,8 +127,5 @@ FIRST_QUESTION = 5
 
 
 def answer_question(told, call):
-    """What a call that asks answers; NO_CALL where there's none of that number."""
-    place = call.number - FIRST_QUESTION
-    if place >= len(QUESTIONS):
-        return [NO_CALL]
-    return QUESTIONS[place](told, call.wholes, call.row)
+    """What a call of this file answers."""
+    return QUESTIONS[call.number - FIRST_QUESTION](told, call.wholes, call.row)

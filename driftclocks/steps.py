@@ -1,7 +1,7 @@
 """What's known at an event, and the steps between what's known."""
 
 from driftclocks.grammar import NO_MOST
-from driftclocks.limits import NOT_REACHED, REACHED, ZERO, is_tighter
+from driftclocks.limits import NOT_REACHED, REACHED, ZERO, finer_limit, is_tighter
 from driftclocks.ratios import common_multiple
 
 # The point that stands for moment 0; as g it stands for all that's told.
@@ -66,12 +66,20 @@ def divide_by_rate(number, rate, scale):
     return number * rate[1] * (scale // rate[0])
 
 
+def onward_step(node, gap, scale):
+    """The step by the lowest rate to a later event of one run that shows so much more."""
+    return (divide_by_rate(gap + 1, node.lowest, scale), NOT_REACHED)
+
+
+def backward_step(node, gap, scale):
+    """The step by the highest rate from such an event back to the earlier one."""
+    return (divide_by_rate(1 - gap, node.highest, scale), NOT_REACHED)
+
+
 def add_clock_steps(steps, node, earlier, later, gap):
     """Puts in the steps by the rates of two events of one run; gap is how much more the later one shows."""
-    longest = divide_by_rate(gap + 1, node.lowest, steps.scale)
-    steps.tighten(earlier, later, (longest, NOT_REACHED))
-    shortest = divide_by_rate(1 - gap, node.highest, steps.scale)
-    steps.tighten(later, earlier, (shortest, NOT_REACHED))
+    steps.tighten(earlier, later, onward_step(node, gap, steps.scale))
+    steps.tighten(later, earlier, backward_step(node, gap, steps.scale))
 
 
 def add_node_steps(steps, told, left_out):
@@ -94,12 +102,32 @@ def add_span(steps, source, goal, least, greatest):
     steps.tighten(goal, source, (0 - least * steps.scale, REACHED))
 
 
+def add_spans(steps, words, moments):
+    """Puts in the steps of these words and moments."""
+    for word in words:
+        add_span(steps, word.source, word.goal, word.least, word.greatest)
+    for moment in moments:
+        add_span(steps, ORIGIN, moment.event, moment.first, moment.latest)
+
+
 def find_steps(told, known, left_out):
     """The steps that count between what's known, without the rates of the nodes that are left out."""
     steps = Steps(find_scale(told.nodes), known)
     add_node_steps(steps, told, left_out)
-    for word in told.words:
-        add_span(steps, word.source, word.goal, word.least, word.greatest)
-    for moment in told.moments:
-        add_span(steps, ORIGIN, moment.event, moment.first, moment.latest)
+    add_spans(steps, told.words, told.moments)
     return steps
+
+
+def steps_with(told, words, moments):
+    """The steps of all that's told, with just these of the words and moments."""
+    steps = Steps(find_scale(told.nodes), find_known(told, ALL_TOLD))
+    add_node_steps(steps, told, [])
+    add_spans(steps, words, moments)
+    return steps
+
+
+def finer_steps(steps, factor):
+    """The same steps in parts of a scale of that many times as many parts."""
+    finer = Steps(steps.scale * factor, steps.known)
+    finer.rows = [[finer_limit(limit, factor) for limit in row] for row in steps.rows]
+    return finer

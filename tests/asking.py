@@ -8,6 +8,13 @@ ALL = -1
 CLEAR = [0]
 TEXT = [4]
 LIARS = [10]
+NEEDLESS = [19]
+TOLD = [22]
+
+# The ends of what a whole number handed in can be, and the last reading of a clock.
+LEAST = -9223372036854775808
+MOST = 9223372036854775807
+LAST_READING = 10**12
 
 
 def as_bytes(text):
@@ -53,6 +60,42 @@ def clash(g):
 
 def life(g, p, f):
     return [11, g, p, f]
+
+
+def age(p, i, c):
+    return [12, p, i, c]
+
+
+def over(p, i):
+    return [13, p, i]
+
+
+def living(p, i):
+    return [14, p, i]
+
+
+def world(g):
+    return [15, g]
+
+
+def pinned(g, e, f, text):
+    return with_row([16, g, e, f], text)
+
+
+def clock(g, e):
+    return [17, g, e]
+
+
+def past(e):
+    return [18, e]
+
+
+def could(e, i, c):
+    return [20, e, i, c]
+
+
+def learned(p, i):
+    return [21, p, i]
 
 
 def split_answers(numbers):
@@ -102,6 +145,29 @@ def limits_of(answer):
         limit, rest = take_limit(rest)
         found.append(limit)
     return found
+
+
+def fraction(text):
+    """A fraction as it's answered."""
+    return [len(text)] + as_bytes(text)
+
+
+def moments_of(numbers):
+    """The moments of events as a world is answered, behind its first number."""
+    found = {}
+    place = 0
+    while place < len(numbers):
+        end = place + 2 + numbers[place + 1]
+        assert not found or numbers[place] > max(found), numbers
+        found[numbers[place]] = Fraction(as_text(numbers[place + 2:end]))
+        place = end
+    return found
+
+
+def value_of(answer):
+    """The one fraction behind an answer's first 0."""
+    assert answer[0] == 0 and len(answer) == 2 + answer[1], answer
+    return Fraction(as_text(answer[2:]))
 
 
 def closed(text):

@@ -24,8 +24,10 @@ def is_less_than_0(limit):
 
 class Model:
     def __init__(self, lines):
+        self.lines = list(lines)
+        self.cuts = {}
         self.nodes, self.events, self.words, self.moments, self.parcels = [], [], [], [], []
-        cuts = {}
+        cuts = self.cuts
         for line in lines:
             kind, *parts = line.split(" ")
             if kind == "node":
@@ -103,6 +105,8 @@ class Model:
         return best
 
     def contradicts(self, steps):
+        if any(is_less_than_0(steps.get((u, u))) for u in self.points):
+            return True
         return any(is_less_than_0(self.shows(steps, points)) for u in self.points for points in self.chains(u, u))
 
     def tables(self, steps):
@@ -147,3 +151,112 @@ class Model:
                 if not self.contradicts(self.steps(-1, [self.nodes[number][0] for number in numbers])):
                     return [size] + list(numbers)
         return [-8]
+
+    def all_limits(self, steps):
+        """The limits between all points, by chains of as many steps as there are points; right where nothing contradicts."""
+        t, way = self.tables(steps)
+        return {(u, v): t(len(self.points), u, v) for u in self.points for v in self.points}
+
+    def next_readings(self, number):
+        """The name of a node, and the least of its next readings."""
+        name = self.nodes[number][0]
+        shown = [reading for other, run, reading in self.events if (other, run) == (name, self.cuts.get(name, 0))]
+        return name, shown[-1] if shown else 0
+
+    def age(self, p, number, reading):
+        """Life's answer and the bounds of the age at an event more, which is told besides."""
+        more = Model(self.lines + [f"at {self.nodes[number][0]} {reading}"])
+        event, told = self.parcels[p]
+        steps = more.steps(-1)
+        t, way = more.tables(steps)
+        last, size = len(self.events), len(more.points)
+        back, greatest = t(size, last, event), t(size, event, last)
+        least = None if back is None else (-back[0], back[1])
+        if least is not None and least[0] >= told:
+            return 2, least, greatest
+        if is_less_than_0(come_to(greatest, (Fraction(-told), False))):
+            return 0, least, greatest
+        return 1, least, greatest
+
+    def world(self, steps, g):
+        limits = self.all_limits(steps)
+        moments = {-1: Fraction(0)}
+        for event in sorted(self.known(g)):
+            earliest = [moment - limits[event, point][0] for point, moment in moments.items() if limits[event, point]]
+            latest = [moment + limits[point, event][0] for point, moment in moments.items() if limits[point, event]]
+            if earliest and latest:
+                moments[event] = (max(earliest) + min(latest)) / 2
+            elif earliest:
+                moments[event] = max(earliest) + 1
+            elif latest:
+                moments[event] = min(latest) - 1
+            else:
+                moments[event] = Fraction(0)
+        del moments[-1]
+        return moments
+
+    def pin(self, steps, e, f, number):
+        return self.besides(steps, [(e, f, (Fraction(number), False)), (f, e, (-Fraction(number), False))])
+
+    def besides(self, steps, rows):
+        whole = dict(steps)
+        for u, v, limit in rows:
+            whole[u, v] = tighter(whole.get((u, v)), limit)
+        return whole
+
+    def clock(self, moments, e):
+        """What e's clock shows exactly in a world of known events."""
+        name, run, reading = self.events[e]
+        lowest, highest = self.rates_of(name)
+        values = [Fraction(reading)]
+        for d in moments:
+            if self.events[d][:2] == (name, run):
+                rate = lowest if d <= e else highest
+                values.append(self.events[d][2] + rate * (moments[e] - moments[d]))
+        return max(values)
+
+    def needless(self):
+        """The numbers of needless words, then those of needless moments, by leaving out their lines."""
+        whole = self.all_limits(self.steps(-1))
+        found = []
+        for kind in ("word ", "moment "):
+            places = [place for place, line in enumerate(self.lines) if line.startswith(kind)]
+            found.append([])
+            for number, place in enumerate(places):
+                less = Model(self.lines[:place] + self.lines[place + 1:])
+                if less.all_limits(less.steps(-1)) == whole:
+                    found[-1].append(number)
+        return found
+
+    def could(self, e, number, c):
+        name = self.nodes[number][0]
+        lowest, highest = self.rates_of(name)
+        rows = []
+        for g, (other, run, r) in enumerate(self.events):
+            if other != name:
+                continue
+            if run != self.cuts.get(name, 0):
+                rows.append((e, g, (Fraction(0), False)))
+            elif r < c:
+                rows.append((g, e, ((c + 1 - r) / lowest, True)))
+                rows.append((e, g, ((r + 1 - c) / highest, True)))
+                rows.append((e, g, (Fraction(0), False)))
+            elif c < r:
+                rows.append((e, g, ((r + 1 - c) / lowest, True)))
+                rows.append((g, e, ((c + 1 - r) / highest, True)))
+                rows.append((g, e, (Fraction(0), False)))
+            else:
+                rows.append((g, e, (1 / lowest, True)))
+                rows.append((e, g, (1 / lowest, True)))
+        return not self.contradicts(self.besides(self.steps(-1), rows))
+
+    def learned(self, p, number):
+        event, told = self.parcels[p]
+        for g, (name, run, reading) in enumerate(self.events):
+            steps = self.steps(g)
+            if name != self.nodes[number][0] or event not in self.known(g) or self.contradicts(steps):
+                continue
+            back = self.limit(steps, g, event)
+            if back is not None and -back[0] >= told:
+                return [1, g]
+        return [0]

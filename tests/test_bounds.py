@@ -2,10 +2,9 @@
 
 import unittest
 
-from tests.asking import ALL, TEXT, ask, ask_of, ask_one, bounds, chain, clash, closed, life, order, read, shows, strict
+from tests.asking import (ALL, LEAST, MOST, TEXT, ask, ask_of, ask_one, bounds, chain, clash, closed, life, order, read, shows,
+                          strict)
 
-LEAST = -9223372036854775808
-MOST = 9223372036854775807
 
 ONE_CLOCK = ["node a 1/2 2", "at a 3", "at a 7"]
 # Event 3 is known at no other one; at 2 (of b) the events 0 and 1 are known, at 0 it alone.

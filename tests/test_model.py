@@ -2,8 +2,10 @@
 
 import random
 import unittest
+from fractions import Fraction
 
-from tests.asking import LIARS, ask_of, bounds, chain, clash, life, limits_of, order, shows
+from tests.asking import (LAST_READING, LIARS, NEEDLESS, age, ask_of, bounds, chain, clash, clock, could, learned, life,
+                          limits_of, living, moments_of, order, over, past, pinned, shows, value_of, world)
 from tests.plain_model import Model, is_less_than_0
 
 RATES = ["1/2", "2/3", "1", "1", "3/2", "2"]
@@ -115,6 +117,99 @@ class BesideTheModel(unittest.TestCase):
             self.assertEqual(found, [-4])
         else:
             self.assertEqual(limits_of(found), [model.shows(model.steps(g), points)])
+
+    def check_next(self, model, lines, p, number, contradicts):
+        name, least = model.next_readings(number)
+        first, last = ask_of(lines, over(p, number), living(p, number))
+        if contradicts:
+            self.assertEqual([first, last] + ask_of(lines, age(p, number, least)), [[-8]] * 3)
+            return "contradicts"
+        readings = [least, least + 1, least + 2, least + 5, LAST_READING]
+        readings += [reading + more for reading in first[1:] + last[1:] for more in (-1, 0, 1)]
+        for reading in readings:
+            if not least <= reading <= LAST_READING:
+                continue
+            judged, lower, upper = model.age(p, number, reading)
+            found = ask_of(lines, age(p, number, reading))[0]
+            self.assertEqual(found[0], judged)
+            self.assertEqual(limits_of([0] + found[1:]), [lower, upper])
+            self.assertEqual(judged == 2, first[0] == 1 and reading >= first[1], (first, reading))
+            self.assertEqual(judged == 0, last[0] == 1 and reading <= last[1], (last, reading))
+        return (first[0], last[0])
+
+    def check_worlds(self, dice, model, lines, g, contradicts):
+        known = sorted(model.known(g))
+        e, f = dice.choice(known), dice.choice(known)
+        number = dice.choice([0, 1, -1, 2, 3]) + Fraction(dice.randint(0, 3), dice.choice([1, 2, 3, 4]))
+        found = ask_of(lines, world(g), pinned(g, e, f, str(number)), *[clock(g, event) for event in known])
+        if contradicts:
+            self.assertEqual(found, [[-8]] * len(found))
+            return "contradicts"
+        steps = model.steps(g)
+        moments = model.world(steps, g)
+        self.assertEqual((found[0][0], moments_of(found[0][1:])), (0, moments))
+        for place, event in enumerate(known):
+            self.assertEqual(value_of(found[2 + place]), model.clock(moments, event))
+        pins = model.pin(steps, e, f, number)
+        if model.contradicts(pins):
+            self.assertEqual(found[1], [0])
+            return "not so"
+        self.assertEqual((found[1][0], moments_of(found[1][1:])), (1, model.world(pins, g)))
+        return "pinned"
+
+    def check_knowledge(self, dice, model, lines, contradicts):
+        event = dice.randrange(len(model.events))
+        number = dice.randrange(len(model.nodes))
+        p = dice.randrange(2)
+        readings = range(0, 16, 3) if dice.random() < 0.5 else range(0, 6)
+        found = ask_of(lines, past(event), learned(p, number), NEEDLESS, *[could(event, number, c) for c in readings])
+        self.assertEqual(found[0], [0] + sorted(model.known(event)))
+        self.assertEqual(found[1], model.learned(p, number))
+        if contradicts:
+            self.assertEqual(found[2:], [[-8]] * (1 + len(readings)))
+            return [found[1][0], "contradicts"]
+        words, moments = model.needless()
+        self.assertEqual(found[2], [len(words)] + words + moments)
+        self.assertEqual(found[3:], [[1 if model.could(event, number, c) else 0] for c in readings])
+        return [found[1][0], "words" if words else "no word", "moments" if moments else "no moment"]
+
+    def test_next_readings_worlds_and_knowledge(self):
+        dice = random.Random(22)
+        kinds = {}
+        for time in range(400):
+            events = dice.randint(1, 5)
+            lines = random_lines(dice, events)
+            model = Model(lines)
+            g = dice.choice([-1] + list(range(events)))
+            with self.subTest(lines=lines, g=g):
+                contradicts = model.contradicts(model.steps(-1))
+                number = dice.randrange(len(model.nodes))
+                came = [("next", self.check_next(model, lines, dice.randrange(2), number, contradicts))]
+                came += [("world", self.check_worlds(dice, model, lines, g, model.contradicts(model.steps(g))))]
+                came += [("known", kind) for kind in self.check_knowledge(dice, model, lines, contradicts)]
+                for kind in came:
+                    kinds[kind] = kinds.get(kind, 0) + 1
+        # All kinds of answers are to come up, but that of living without over, which is rare.
+        self.assertGreaterEqual(len(kinds), 4 + 3 + 7, kinds)
+
+    def test_long_worlds(self):
+        dice = random.Random(23)
+        done = 0
+        for time in range(12):
+            events = dice.randint(10, 20)
+            lines = random_lines(dice, events)
+            model = Model(lines)
+            g = dice.choice([-1, events - 1, events - 2])
+            steps = model.steps(g)
+            if model.ring(steps):
+                continue
+            done += 1
+            with self.subTest(lines=lines, g=g):
+                found = ask_of(lines, world(g), clock(g, max(model.known(g))))
+                moments = model.world(steps, g)
+                self.assertEqual(moments_of(found[0][1:]), moments)
+                self.assertEqual(value_of(found[1]), model.clock(moments, max(moments)))
+        self.assertGreater(done, 3)
 
     def test_small_tellings(self):
         dice = random.Random(20)

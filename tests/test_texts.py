@@ -2,10 +2,8 @@
 
 import unittest
 
-from tests.asking import CLEAR, TEXT, ask, as_bytes, look, read, tell
+from tests.asking import CLEAR, LEAST, MOST, TEXT, ask, as_bytes, look, read, tell
 
-LEAST = -9223372036854775808
-MOST = 9223372036854775807
 GOOD = ["node a 1 1", "at a 0", "cut a", "word 0 1 0 -", "moment 0 0 -", "parcel a 0 1"]
 
 # Texts of one line with the place of their fault.
